@@ -1,0 +1,1 @@
+"""Senses of three tongues, which of them say the same, and what follows."""
