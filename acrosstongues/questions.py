@@ -1,23 +1,14 @@
-"""The calls that only ask: dictionary, senses, equivalents, back, classes, over."""
+"""The calls that only ask, but for those of fields."""
 
+from acrosstongues.book import TONGUES
 from acrosstongues.refusals import refuse_sense, refuse_tongues
-from acrosstongues.relations import all_classes, is_complete, over_third, there_and_back
-from acrosstongues.texts import printed_line, read_sense, told_sense
+from acrosstongues.relations import all_classes, all_lacking, gaps, how_many_pairs, is_complete
+from acrosstongues.relations import over_third, paired_with_itself, there_and_back, twins, words_alike
+from acrosstongues.rows import counted, counted_sense, counted_senses
+from acrosstongues.texts import printed_line, read_sense
 
-
-def counted(row):
-    return [len(row)] + row
-
-
-def counted_sense(x):
-    return counted(told_sense(x))
-
-
-def counted_senses(told):
-    answer = [len(told)]
-    for x in told:
-        answer.extend(counted_sense(x))
-    return answer
+MOST_LACKING_TOLD = 100
+TWO_TONGUES = ((1, 2), (1, 3), (2, 3))
 
 
 def ask_dictionary(book, s, t):
@@ -81,3 +72,48 @@ def ask_over(book, s, c, t, text):
         answer.append(1 if book.paired(s, t, x, y) else 0)
         answer.extend(counted_sense(y))
     return answer
+
+
+def ask_lacking(book):
+    found = all_lacking(book)
+    answer = [0, len(found)]
+    for s, t, x, y in found[:MOST_LACKING_TOLD]:
+        answer.extend([s, t])
+        answer.extend(counted_sense(x))
+        answer.extend(counted_sense(y))
+    return answer
+
+
+def ask_gaps(book, s, t):
+    refusal = refuse_tongues([s, t])
+    if refusal != 0:
+        return [refusal]
+    return [0] + counted_senses(gaps(book, s, t))
+
+
+def ask_twins(book, s, t):
+    refusal = refuse_tongues([s, t])
+    if refusal != 0:
+        return [refusal]
+    found = twins(book, s, t)
+    answer = [0, len(found)]
+    for group in found:
+        answer.extend(counted_senses(group))
+    return answer
+
+
+def ask_alike(book, s, t):
+    refusal = refuse_tongues([s, t])
+    if refusal != 0:
+        return [refusal]
+    found = words_alike(book, s, t)
+    answer = [0, len(found)]
+    for word in found:
+        answer.append(1 if paired_with_itself(book, s, t, word) else 0)
+        answer.extend(counted(list(word)))
+    return answer
+
+
+def ask_counts(book):
+    how_many_senses = [len(book.senses(s)) for s in TONGUES]
+    return [0] + how_many_senses + [how_many_pairs(book, s, t) for s, t in TWO_TONGUES]

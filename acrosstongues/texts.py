@@ -57,17 +57,22 @@ def told_sense(x):
     return list(x[0]) + [BLANK, ZERO + x[1]]
 
 
+# The senses whose texts commas part, or None if one of these is no sense's text.
+def read_senses(row):
+    found = []
+    for part in split_at(row, COMMA):
+        x = read_sense(part)
+        if x is None:
+            return None
+        found.append(x)
+    return found
+
+
 # The senses behind a line's colon, or None if they are told wrongly.
 def read_equivalents(row):
     if unblanked(row) == [[DASH]]:
         return []
-    found = []
-    for part in split_at(row, COMMA):
-        y = read_sense(part)
-        if y is None:
-            return None
-        found.append(y)
-    return found
+    return read_senses(row)
 
 
 # A sense and its equivalents, or None if the line is wrong.

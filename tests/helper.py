@@ -56,6 +56,42 @@ def over(s, c, t, x):
     return [9, s, c, t] + counted(x)
 
 
+def lacking():
+    return [10]
+
+
+def fields(s, t):
+    return [11, s, t]
+
+
+def closed(s, t, texts):
+    return [12, s, t] + counted(texts)
+
+
+def within(s, t):
+    return [13, s, t]
+
+
+def fewest(s, t):
+    return [14, s, t]
+
+
+def gaps(s, t):
+    return [15, s, t]
+
+
+def twins(s, t):
+    return [16, s, t]
+
+
+def alike(s, t):
+    return [17, s, t]
+
+
+def counts():
+    return [18]
+
+
 def ask(*calls):
     """One answer, as a list, for each call on one new book."""
     flat = answers([number for call in calls for number in call])
@@ -150,6 +186,65 @@ def read_over(answer):
         found.append(tuple(row) + (reader.sense(),))
     assert reader.ended()
     return found
+
+
+def read_lacking(answer):
+    """How many there are, and those that are told."""
+    reader = Reader(answer)
+    assert reader.number() == 0
+    count = reader.number()
+    found = []
+    while not reader.ended():
+        tongues = (reader.number(), reader.number())
+        found.append(tongues + (reader.sense(), reader.sense()))
+    return count, found
+
+
+def read_fields(answer):
+    reader = Reader(answer)
+    assert reader.number() == 0
+    found = [(reader.senses(), reader.senses()) for place in range(reader.number())]
+    assert reader.ended()
+    return found
+
+
+def read_closed(answer):
+    reader = Reader(answer)
+    assert reader.number() == 0
+    found = (reader.senses(), reader.senses())
+    assert reader.ended()
+    return found
+
+
+def read_within(answer):
+    reader = Reader(answer)
+    assert reader.number() == 0
+    found = [(reader.number(), reader.number()) for place in range(reader.number())]
+    assert reader.ended()
+    return found
+
+
+def read_twins(answer):
+    reader = Reader(answer)
+    assert reader.number() == 0
+    found = [reader.senses() for place in range(reader.number())]
+    assert reader.ended()
+    return found
+
+
+def read_alike(answer):
+    reader = Reader(answer)
+    assert reader.number() == 0
+    found = [(reader.number(), reader.sense()) for place in range(reader.number())]
+    assert reader.ended()
+    return found
+
+
+def links(calls, s, t):
+    """A dict from the senses of s, in order, to their equivalents in t."""
+    names = read_senses(last(*calls, senses(s)))
+    answered = ask(*calls, *[equivalents(s, t, x) for x in names])[len(calls):]
+    return {x: read_senses(answer) for x, answer in zip(names, answered)}
 
 
 BOOK = (

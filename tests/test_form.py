@@ -17,7 +17,7 @@ NODES = (
 
 BUILT_IN = "len range enumerate zip min max sum abs sorted reversed int str list tuple dict set any all divmod".split()
 
-METHODS = "append extend get index items keys pop values".split()
+METHODS = "append extend get index items keys pop setdefault values".split()
 
 WORDS = (
     "type typing typing_extensions enum Enum IntEnum StrEnum Flag IntFlag Generic Protocol ABC ABCMeta namedtuple "

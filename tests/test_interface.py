@@ -1,13 +1,25 @@
 import unittest
 
 from acrosstongues.tongues import answers
-from tests.helper import BOOK, ask, back, classes, dictionary, drop, equivalents, over, pair, senses, tell, unpair
+from tests.helper import BOOK, alike, ask, back, classes, closed, counts, dictionary, drop, equivalents, everything
+from tests.helper import fewest, fields, gaps, lacking, many_words, over, pair, senses, tell, twins, unpair, within
 
-EVERY_CALL = list(BOOK) + [
-    dictionary(1, 2), pair(1, 2, "river", "fluss"), unpair(1, 2, "bank", "ufer"), drop(3, "playa"), senses(2),
-    equivalents(1, 2, "bank"), back(1, 2, "bank"), classes(1, 3), over(1, 2, 3, "bank"),
-    tell(1, 1, "a: b"), tell(1, 2, "wrong"), pair(1, 2, "bank 0", [-1]), drop(1, ""), unpair(1, 2, "", ""), senses(0),
+QUESTIONS = [
+    dictionary(1, 2), senses(2), equivalents(1, 2, "bank"), back(1, 2, "bank"), classes(1, 3), over(1, 2, 3, "bank"),
+    lacking(), fields(1, 2), closed(2, 3, "bank, ufer"), within(2, 1), fewest(1, 3), gaps(1, 2), twins(3, 2),
+    alike(1, 2), counts(),
 ]
+
+REFUSED = [
+    tell(1, 1, "a: b"), pair(1, 2, "bank 0", [-1]), pair(1, 2, "bank", "bank"), unpair(1, 2, "", ""),
+    unpair(1, 2, "river", "bank"), drop(1, ""), senses(0), equivalents(1, 2, "nowhere"), back(1, 1, "bank"),
+    classes(4, 1), over(1, 1, 3, "bank"), fields(1, 4), closed(1, 2, "bank,"), within(0, 1), fewest(2, 2),
+    gaps(-1, 2), twins(1, 5), alike(3, 3), dictionary(10, 1),
+]
+
+CHANGES = [tell(1, 2, "wrong"), pair(1, 2, "river", "fluss"), unpair(1, 2, "bank", "ufer"), drop(3, "playa")]
+
+EVERY_CALL = list(BOOK) + QUESTIONS + REFUSED + CHANGES + QUESTIONS[1:7] + QUESTIONS[8:9] + QUESTIONS[11:]
 
 
 def flat(calls):
@@ -23,11 +35,17 @@ class InterfaceTest(unittest.TestCase):
 
     def test_calls_are_read_by_their_forms(self):
         self.assertEqual([answer[0] for answer in ask(*EVERY_CALL)],
-                         [0] * 12 + [-2, 0, -2, -5, -5, -2])
+                         [0] * (len(BOOK) + len(QUESTIONS))
+                         + [-2, -2, -6, -5, -6, -5, -2, -3, -2, -2, -2, -2, -5, -2, -2, -2, -2, -2, -2]
+                         + [0] * (len(CHANGES) + 11))
+
+    def test_every_call_is_among_them(self):
+        self.assertEqual({call[0] for call in EVERY_CALL}, set(range(19)))
 
     def test_rows_may_look_like_calls(self):
-        self.assertEqual(ask(tell(1, 2, []), drop(1, [5, 1]), unpair(1, 2, [], [8, 1, 2]), senses(1)),
-                         [[0, 1, 0, 0], [-2], [-5], [0, 0]])
+        self.assertEqual(ask(tell(1, 2, []), drop(1, [5, 1]), unpair(1, 2, [], [8, 1, 2]), senses(1),
+                             closed(1, 2, [18]), closed(1, 2, []), lacking(), counts()),
+                         [[0, 1, 0, 0], [-2], [-5], [0, 0], [-2], [-5], [0, 0], [0, 0, 0, 0, 0, 0, 0]])
 
     def test_a_refusal_is_alone_and_no_other_number_is_below_0(self):
         for answer in ask(*EVERY_CALL):
@@ -52,6 +70,24 @@ class InterfaceTest(unittest.TestCase):
         first.clear()
         self.assertEqual(answers(calls), copied)
         self.assertEqual(answers(senses(1)), [2, 0, 0])
+
+    def test_nothing_changes_by_a_question_or_a_refusal(self):
+        before = ask(*BOOK, *everything(), counts())[len(BOOK):]
+        for call in QUESTIONS + REFUSED:
+            after = ask(*BOOK, call, *everything(), counts())[len(BOOK) + 1:]
+            self.assertEqual(after, before, call)
+
+    def test_a_question_asked_twice_is_answered_alike(self):
+        for call in QUESTIONS:
+            answered = ask(*BOOK, call, call)[len(BOOK):]
+            self.assertEqual(answered[0], answered[1], call)
+
+    def test_forty_of_lacking_and_ten_of_fields(self):
+        words = ",".join(many_words(40))
+        book = [tell(3, 1, "k: " + words), tell(3, 2, "k: " + words)]
+        answered = ask(*book, *[lacking()] * 40, *[fewest(3, 1)] * 4, *[within(3, 1)] * 3, *[fields(1, 2)] * 3)
+        self.assertEqual({answer[1] for answer in answered[2:42]}, {1600})
+        self.assertEqual(answered[42:], [[0, 1, 1, 1]] * 4 + [[0, 0]] * 6)
 
     def test_a_hundred_calls(self):
         calls = [pair(1, 2, "a", "b"), unpair(1, 2, "a", "b")] * 50

@@ -1,7 +1,7 @@
 import unittest
 from fractions import Fraction
 
-from tests.helper import BOOK, ask, equivalents, last, over, pair, read_over, read_senses, senses, some_books, tell
+from tests.helper import BOOK, last, links, over, pair, read_over, some_books, tell
 
 
 class OverTest(unittest.TestCase):
@@ -63,9 +63,3 @@ class OverTest(unittest.TestCase):
                     self.assertEqual(read_over(last(*calls, over(s, c, t, x))), expected)
                     met += len(expected) > 1
         self.assertTrue(met > 0)
-
-
-def links(calls, s, t):
-    names = read_senses(last(*calls, senses(s)))
-    answered = ask(*calls, *[equivalents(s, t, x) for x in names])[len(calls):]
-    return {x: read_senses(answer) for x, answer in zip(names, answered)}

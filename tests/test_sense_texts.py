@@ -2,8 +2,8 @@
 
 import unittest
 
-from tests.helper import BOOK, GREATEST, ask, back, classes, dictionary, drop, equivalents, everything, last, over
-from tests.helper import pair, read_senses, senses, tell, unpair
+from tests.helper import BOOK, GREATEST, alike, ask, back, classes, closed, dictionary, drop, equivalents, everything
+from tests.helper import fewest, fields, gaps, last, over, pair, read_senses, senses, tell, twins, unpair, within
 
 # Each call with a sense's text that must be there, the other ones being right.
 ASKING = {
@@ -28,6 +28,13 @@ TWO_TONGUES = {
     "equivalents": lambda s, t: equivalents(s, t, "bank"),
     "back": lambda s, t: back(s, t, "bank"),
     "classes": classes,
+    "fields": fields,
+    "closed": lambda s, t: closed(s, t, "bank"),
+    "within": within,
+    "fewest": fewest,
+    "gaps": gaps,
+    "twins": twins,
+    "alike": alike,
 }
 
 NO_TONGUES = (0, 4, -1, 10, GREATEST, -GREATEST)
